@@ -1,0 +1,1 @@
+"""Oftenasked: services whose asks may come again."""

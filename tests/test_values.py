@@ -1,0 +1,178 @@
+"""Promise 1: any values, errors in the order of the parameters, nothing that is handed in changed."""
+
+import copy
+import unittest
+
+from oftenasked import again, services
+from oftenasked.errors import BadHistory, BadLot, BadRow, BadService, BadWindow, NoAsk, ServiceError, Unlike
+from tests.plain import COUNT, LAMP
+
+INTERFACE = {
+    services: ("is_service", "answers", "stand", "stands_come_to", "least", "are_alike", "parting"),
+    again: ("is_history", "heard", "firsts", "bears", "window_of", "borne", "harmful", "greatest_part", "part"),
+}
+
+# For each function what it may be passed and the error of each parameter; None for one that takes any value.
+CALLS = (
+    (services.is_service, (LAMP,), (None,)),
+    (services.answers, (LAMP, "tn"), (BadService, BadRow)),
+    (services.stand, (LAMP, "tn"), (BadService, BadRow)),
+    (services.stands_come_to, (LAMP,), (BadService,)),
+    (services.least, (LAMP,), (BadService,)),
+    (services.are_alike, (LAMP, LAMP), (BadService, BadService)),
+    (services.parting, (LAMP, LAMP), (BadService, BadService)),
+    (again.is_history, (LAMP, "n", 1, ("n", 1)), (BadService, BadLot, BadWindow, None)),
+    (again.heard, (LAMP, ("n", 1)), (BadService, BadHistory)),
+    (again.firsts, (("n", 1),), (BadHistory,)),
+    (again.bears, (LAMP, "n", 1), (BadService, BadLot, BadWindow)),
+    (again.window_of, (LAMP, "n"), (BadService, BadLot)),
+    (again.borne, (LAMP, 1), (BadService, BadWindow)),
+    (again.harmful, (LAMP, 1), (BadService, BadWindow)),
+    (again.greatest_part, (LAMP, 1), (BadService, BadWindow)),
+    (again.part, (LAMP, "n"), (BadService, BadLot)),
+)
+
+KINDS = (None, True, False, 0, 1, 2, -1, 41, 10 ** 60, -10 ** 60, "", "n", "t", "tn", "x", "N", "\u00e9", "\n", "n" * 61,
+         (), ("n",), (0, "x"), ("x", 0), [], ["n", "t"], [0, "x"], {}, {"n": 0}, {0: "x"}, {(0, "x"): (0, "x")})
+
+
+def deep(make, depth):
+    """A value nested so deep."""
+    value = make(1)
+    for _ in range(depth - 1):
+        value = make(value)
+    return value
+
+
+def odd_values():
+    """Values of all kinds, and services and histories with such values as their parts."""
+    asks, rows = LAMP
+    values = list(KINDS)
+    values += [deep(lambda value: (value,), 30), deep(lambda value: [value], 30), deep(lambda value: {1: value}, 30),
+               deep(lambda value: (value, [value]), 8)]
+    for kind in KINDS:
+        values += [(kind, rows), (asks, kind), (asks, (rows[0], kind)), (asks, (rows[0], ((0, "x"), kind))),
+                   (asks, (rows[0], ((0, "x"), (kind, "x")))), (asks, (rows[0], ((0, "x"), (0, kind)))),
+                   (kind,), ("n", kind), ("n", 1, kind), [kind], {1: kind}, (kind, kind)]
+    values += [[asks, rows], (asks, list(rows)), (asks, [list(parts) for parts in rows])]
+    return values
+
+
+def is_small_whole(value, least, most):
+    return type(value) is int and least <= value <= most
+
+
+def is_plain_service(value):
+    """Whether one of the odd values, each made of a lamp, is a service still."""
+    if type(value) is not tuple or len(value) != 2 or value[0] != "nt" or type(value[1]) is not tuple:
+        return False
+    if len(value[1]) != 2 or any(type(parts) is not tuple or len(parts) != 2 for parts in value[1]):
+        return False
+    pairs = [pair for parts in value[1] for pair in parts]
+    return all(type(pair) is tuple and len(pair) == 2 and is_small_whole(pair[0], 0, 1) and type(pair[1]) is str
+               and pair[1] in ("n", "t", "x", "y") for pair in pairs)
+
+
+def is_plain_history(value, letters):
+    """Whether one of the odd values is a history with these letters, for ever."""
+    if type(value) is not tuple:
+        return False
+    new = 0
+    for item in value:
+        if type(item) is str and item in letters:
+            new += 1
+        elif not is_small_whole(item, 1, new):
+            return False
+    return True
+
+
+def is_right(tell, error, value):
+    """Whether a value is right for a parameter with that error."""
+    if error is None:
+        return True
+    if error is BadService:
+        return is_plain_service(value)
+    if error is BadRow:
+        return type(value) is str and value in ("", "n", "t", "tn")
+    if error is BadLot:
+        # An empty lot is one, but part needs more: that error has a test of its own.
+        return type(value) is str and value in ("", "n", "t")
+    if error is BadWindow:
+        return value is None or is_small_whole(value, 0, 40)
+    return is_plain_history(value, ("n", "t", "x") if tell is again.firsts else ("n", "t"))
+
+
+class AnyValues(unittest.TestCase):
+    def call(self, tell, passed):
+        """What a call tells or the class of the error that it raises, and that it changes nothing it is passed."""
+        kept = copy.deepcopy(passed)
+        told = []
+        for _ in range(2):
+            try:
+                told.append(tell(*passed))
+            except ServiceError as error:
+                self.assertIsInstance(error, ValueError)
+                told.append(type(error))
+            self.assertEqual(repr(passed), repr(kept))
+        self.assertEqual(repr(told[0]), repr(told[1]))
+        return told[0]
+
+    def test_all_functions_are_called(self):
+        names = [name for names in INTERFACE.values() for name in names]
+        self.assertEqual([tell.__name__ for tell, _, _ in CALLS], names)
+
+    def test_functions_are_defined_where_the_interface_lists_them(self):
+        for module, names in INTERFACE.items():
+            for name in names:
+                self.assertEqual(getattr(module, name).__module__, module.__name__)
+
+    def test_one_value_that_is_wrong(self):
+        values = odd_values()
+        for tell, right, errors in CALLS:
+            for at, error in enumerate(errors):
+                for value in values:
+                    passed = right[:at] + (value,) + right[at + 1:]
+                    told = self.call(tell, passed)
+                    wrong = not is_right(tell, error, value)
+                    raised = isinstance(told, type) and told is not NoAsk
+                    self.assertIs(raised, wrong, (tell.__name__, at, value))
+                    if raised:
+                        self.assertIs(told, error, (tell.__name__, at, value))
+
+    def test_of_two_that_are_wrong_the_first_one_is_told(self):
+        wrongs = (True, -1, "X", ["n"], {"n": 1}, ("nt", ()), [])
+        for tell, right, errors in CALLS:
+            for first in range(len(errors)):
+                for second in range(first + 1, len(errors)):
+                    for value in wrongs:
+                        for other in wrongs:
+                            passed = list(right)
+                            passed[first], passed[second] = value, other
+                            if errors[first] is not None:
+                                self.assertIs(self.call(tell, tuple(passed)), errors[first])
+
+    def test_all_wrong_at_once(self):
+        for tell, right, errors in CALLS:
+            for value in (False, 10 ** 30, "X", ["n"], {"n": 1}):
+                told = self.call(tell, (value,) * len(right))
+                self.assertIs(told, errors[0] or False)
+
+    def test_functions_that_are_asked_whether_tell_true_or_false(self):
+        for value in odd_values():
+            self.assertIs(services.is_service(value), is_plain_service(value))
+            wished = is_plain_history(value, ("n", "t"))
+            self.assertIs(again.is_history(LAMP, "nt", None, value), wished)
+        for tell, passed in ((services.are_alike, (LAMP, LAMP)), (services.are_alike, (LAMP, ("nt", LAMP[1][::-1]))),
+                             (again.bears, (LAMP, "n", 1)), (again.bears, (LAMP, "n", None))):
+            self.assertIs(type(tell(*passed)), bool)
+
+    def test_what_two_parameters_tell_together_comes_last(self):
+        self.assertIs(self.call(services.are_alike, (LAMP, COUNT)), Unlike)
+        self.assertIs(self.call(services.parting, (COUNT, LAMP)), Unlike)
+        self.assertIs(self.call(services.parting, (COUNT, None)), BadService)
+        self.assertIs(self.call(again.part, (LAMP, "")), NoAsk)
+        self.assertIs(self.call(again.part, (None, "")), BadService)
+
+
+if __name__ == "__main__":
+    unittest.main()
