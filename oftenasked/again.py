@@ -46,17 +46,23 @@ def first_asks(tale):
     return "".join([item for item in tale if isinstance(item, str)])
 
 
-def asked(tale):
-    """The text of the asks of all items of a tale, those that come again too."""
-    new = []
-    made = []
+def meant(tale):
+    """For each item of a tale the place of its ask among the first asks, for one that comes again too."""
+    places = []
+    ahead = 0
     for item in tale:
         if isinstance(item, str):
-            new.append(item)
-            made.append(item)
+            places.append(ahead)
+            ahead += 1
         else:
-            made.append(new[-item])
-    return "".join(made)
+            places.append(ahead - item)
+    return places
+
+
+def asked(tale):
+    """The text of the asks of all items of a tale, those that come again too."""
+    new = first_asks(tale)
+    return "".join([new[place] for place in meant(tale)])
 
 
 def is_told(service, lot, window, value):
@@ -75,11 +81,16 @@ def is_history(service, lot, window, value):
     return is_told(service, lot, window, value)
 
 
+def need_history(service, value):
+    """Raise BadHistory for any value that is no history with all asks of the service in the lot, for ever."""
+    if not is_told(service, service[0], None, value):
+        raise BadHistory()
+
+
 def heard(service, history):
     """The text of the answers of all items of a history."""
     need_service(service)
-    if not is_told(service, service[0], None, history):
-        raise BadHistory()
+    need_history(service, history)
     return walk(service, asked(history))[1]
 
 

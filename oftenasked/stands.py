@@ -4,10 +4,10 @@ The functions here are passed services and rows of stands that were checked befo
 """
 
 
-def walk(service, row):
-    """The stand behind a row of any length, and the text of its answers."""
+def walk(service, row, begin=0):
+    """The stand behind a row of any length from a begin on, and the text of its answers."""
     asks, rows = service
-    at = 0
+    at = begin
     told = []
     for ask in row:
         at, answer = rows[at][asks.index(ask)]
@@ -33,6 +33,23 @@ def come_to(rows):
     return sorted(depths(rows, [0]))
 
 
+def walks(service, begin):
+    """For each stand that rows from a begin lead to: the least of these rows."""
+    asks, rows = service
+    least_rows = {begin: ""}
+    order = [begin]
+    at = 0
+    # Stands are queued by their least rows, so the first row that leads to a stand is its least.
+    while at < len(order):
+        here = order[at]
+        at += 1
+        for ask, (after, _) in zip(asks, rows[here]):
+            if after not in least_rows:
+                least_rows[after] = least_rows[here] + ask
+                order.append(after)
+    return least_rows
+
+
 def numbered(signs):
     """For each sign a number: the same for the same signs only, as they first stand, from 0 on."""
     numbers = {}
@@ -41,24 +58,44 @@ def numbered(signs):
     return [numbers[sign] for sign in signs]
 
 
-def likes(rows):
-    """For each stand the number of its like: alike stands, and only these, have the same number."""
+def rounds(rows):
+    """For one ask, two, .., as many as tell all unlike stands apart: numbers, the same for stands alike so far."""
     marks = numbered([tuple([answer for _, answer in parts]) for parts in rows])
+    found = [marks]
     many = 0
     # Each round tells apart what one more ask tells apart; a round that tells nothing apart is the last.
     while many < max(marks):
         many = max(marks)
         ways = [tuple([marks[after] for after, _ in parts]) for parts in rows]
         marks = numbered(list(zip(marks, ways)))
-    return marks
+        found.append(marks)
+    return found
 
 
-def merged(service):
-    """The least service that answers every row alike, its stands numbered as they are come to."""
+def likes(rows):
+    """For each stand the number of its like: alike stands, and only these, have the same number."""
+    return rounds(rows)[-1]
+
+
+def telling(service, told, here, there):
+    """The least row that two unlike stands answer unlike; told are the rounds of the service's stands."""
     asks, rows = service
-    marks = likes(rows)
-    numbers = {marks[0]: 0}
+    left = [marks[here] != marks[there] for marks in told].index(True)
+    row = ""
+    while left > 0:
+        left -= 1
+        nexts = [(after, later) for (after, _), (later, _) in zip(rows[here], rows[there])]
+        place = [told[left][after] != told[left][later] for after, later in nexts].index(True)
+        row += asks[place]
+        here, there = nexts[place]
+    replies = [(answer, reply) for (_, answer), (_, reply) in zip(rows[here], rows[there])]
+    return row + asks[[answer != reply for answer, reply in replies].index(True)]
+
+
+def met(rows, marks):
+    """Of alike stands the one that is come to first, in that order, and for their marks the numbers in it."""
     chosen = [0]
+    numbers = {marks[0]: 0}
     at = 0
     while at < len(chosen):
         parts = rows[chosen[at]]
@@ -67,7 +104,23 @@ def merged(service):
                 numbers[marks[after]] = len(chosen)
                 chosen.append(after)
         at += 1
+    return chosen, numbers
+
+
+def merged(service):
+    """The least service that answers every row alike, its stands numbered as they are come to."""
+    asks, rows = service
+    marks = likes(rows)
+    chosen, numbers = met(rows, marks)
     return asks, tuple([renumbered(rows[old], marks, numbers) for old in chosen])
+
+
+def classes_of(rows):
+    """For each stand the number of its like in the least service, None for one that no row leads to."""
+    marks = likes(rows)
+    _, numbers = met(rows, marks)
+    reached = come_to(rows)
+    return tuple([numbers[marks[at]] if at in reached else None for at in range(len(rows))])
 
 
 def renumbered(parts, marks, numbers):

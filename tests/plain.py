@@ -179,3 +179,175 @@ def greatest_by_search(service, window):
             if bears_by_search(left_out(service, lot), lot, window):
                 return lot
     return ""
+
+
+def wheel(many):
+    """a goes round and tells y at the last stand but one; b leads back from the last stand and does nothing else."""
+    return ("ab", tuple((((at + 1) % many, "y" if at == many - 2 else "x"), (0 if at == many - 1 else at, "o"))
+                        for at in range(many)))
+
+
+def late_wheel(many):
+    """A wheel with that many stands that begins at one more stand, ahead of it; b does nothing there."""
+    asks, rows = wheel(many)
+    moved = tuple(tuple((after + 1, answer) for after, answer in parts) for parts in rows)
+    return (asks, (((1, "x"), (0, "o")),) + moved)
+
+
+def once_told(many):
+    """a goes on to the last stand; b does nothing, but tells y there."""
+    return ("ab", tuple(((min(at + 1, many - 1), "x"), (at, "y" if at == many - 1 else "x")) for at in range(many)))
+
+
+def lots_of(asks):
+    """All lots of these asks, the empty one too."""
+    return ["".join(ask for at, ask in enumerate(asks) if sign >> at & 1) for sign in range(2 ** len(asks))]
+
+
+def one_integer(asks, lot, window, items):
+    """All histories of that many items with one integer: by text, by the integer's place, by the integer."""
+    for signs in itertools.product(asks, repeat=items - 1):
+        for place in range(1, items):
+            for back in range(1, place + 1):
+                if signs[place - back] in lot and (window is None or back <= window):
+                    yield signs[:place] + (back,) + signs[place:]
+
+
+def again_unlike(service, history):
+    """Whether some item that comes again is answered unlike its first ask, all items being asked of the service."""
+    at = 0
+    first_told = []
+    for item in history:
+        if isinstance(item, str):
+            at, answer = follow(service, at, item)
+            first_told.append((item, answer))
+        else:
+            ask, told = first_told[-item]
+            at, answer = follow(service, at, ask)
+            if answer != told:
+                return True
+    return False
+
+
+def broken_by_search(service, lot, window):
+    """The first history with one integer that shows an unlike answer: all are tried in their order."""
+    if bears_by_search(service, lot, window):
+        return None
+    for items in itertools.count(2):
+        for history in one_integer(service[0], lot, window, items):
+            if shows_unlike(service, history):
+                return history
+
+
+def second_by_search(service, lot, window):
+    """The first history that ends with its one integer, answered unlike: all are tried in their order."""
+    if answers_again_by_search(service, lot, window):
+        return None
+    for items in itertools.count(2):
+        for history in one_integer(service[0], lot, window, items):
+            if isinstance(history[-1], int) and again_unlike(service, history):
+                return history
+
+
+def answers_again_by_search(service, lot, window):
+    """For a lot that is borne, histories of any length: each stand with what may come again and how it was answered."""
+    asks, _ = service
+    todo = [(0, ())]
+    seen = set(todo)
+    while todo:
+        at, kept = todo.pop()
+        nexts = []
+        for ask, told in kept:
+            if ask in lot:
+                after, answer = follow(service, at, ask)
+                if answer != told:
+                    return False
+                nexts.append((after, kept))
+        for ask in asks:
+            after, answer = follow(service, at, ask)
+            pair = ((ask, answer),)
+            if window is None:
+                nexts.append((after, tuple(sorted(set(kept + pair)))))
+            else:
+                nexts.append((after, (kept + pair)[-window:] if window else ()))
+        for state in nexts:
+            if state not in seen:
+                seen.add(state)
+                todo.append(state)
+    return True
+
+
+def may_come(service, ask, window, longest):
+    """The stands that rows of at most that length lead to whose last asks, as many as the window, have the ask."""
+    found = set()
+    for row in rows_of(service[0], longest):
+        last = row if window is None else row[max(0, len(row) - window):]
+        if ask in last:
+            found.add(follow(service, 0, row)[0])
+    return found
+
+
+def swaps_by_rows(service, one, other, longest):
+    """Whether two neighbours may change places in each row of at most that length."""
+    for row in rows_of(service[0], longest):
+        told = follow(service, 0, row)[1]
+        for at in range(len(row) - 1):
+            if row[at:at + 2] in (one + other, other + one):
+                turned = follow(service, 0, row[:at] + row[at + 1] + row[at] + row[at + 2:])[1]
+                if turned[:at] + turned[at + 1] + turned[at] + turned[at + 2:] != told:
+                    return False
+    return True
+
+
+def led_to(row, free):
+    """All rows that a row is led to by changes of neighbours, one after another; free are those that may change."""
+    found = {row}
+    todo = [row]
+    while todo:
+        now = todo.pop()
+        for at in range(len(now) - 1):
+            if "".join(sorted(now[at:at + 2])) in free:
+                turned = now[:at] + now[at + 1] + now[at] + now[at + 2:]
+                if turned not in found:
+                    found.add(turned)
+                    todo.append(turned)
+    return found
+
+
+def by_plain_clerk(service, clerk, history):
+    """The answers of a clerk, its words followed one by one: all that it kept stands in one list."""
+    many, most = clerk
+    at, following, kept, told, sent = 0, 0, [], [], []
+    for item in history:
+        if isinstance(item, str):
+            sent.append((item, sent[-1][1] + 1 if sent else 0))
+            if sent[-1][1] == many:
+                sent[-1] = (item, 0)
+            ask, number = sent[-1]
+        else:
+            ask, number = sent[len(sent) - item]
+        answer = ""
+        if number == following:
+            at, answer = follow(service, at, ask)
+            kept.insert(0, (number, answer))
+            following = 0 if following == many - 1 else following + 1
+        else:
+            for its, old in reversed(kept[:most]):
+                answer = old if its == number else answer
+        told.append(answer)
+    return tuple(told)
+
+
+def by_plain_wish(service, history):
+    """The answers that are wished: those of the first asks alone, and the same ones again."""
+    row = "".join(item for item in history if isinstance(item, str))
+    alone = follow(service, 0, row)[1]
+    told = []
+    new = ""
+    for item in history:
+        if isinstance(item, str):
+            new += alone[len(new)]
+            told.append(new[-1])
+        else:
+            told.append(new[-item])
+    return tuple(told)

@@ -6,17 +6,12 @@ from oftenasked.again import (bears, borne, firsts, greatest_part, harmful, hear
 from oftenasked.errors import BadHistory, BadLot, BadService, BadWindow, NoAsk
 from oftenasked.services import least
 from tests.plain import (COUNT, DULL, LAMP, TOGGLE, bears_by_ages, bears_by_histories, bears_by_search, every_service,
-                         first_unlike, follow, greatest_by_search, histories, left_out, ring, rows_of, shows_unlike,
-                         some_services)
+                         first_unlike, follow, greatest_by_search, histories, left_out, lots_of, ring, rows_of,
+                         shows_unlike, some_services)
 
 WINDOWS = (0, 1, 2, 3, None)
 BAD_WINDOWS = (41, -1, True, False, 10 ** 40, -10 ** 40, "1", "", (1,), [], {}, [1])
 BAD_LOTS = ("tn", "nn", "x", "ntx", "N", "n t", "\u00e9", None, True, 0, (), ("n",), ["n"], [], {}, {"n": 1})
-
-
-def lots_of(asks):
-    """All lots of these asks, the empty one too."""
-    return ["".join(ask for at, ask in enumerate(asks) if sign >> at & 1) for sign in range(2 ** len(asks))]
 
 
 def samples():

@@ -27,6 +27,34 @@ AGAIN = """
 ['n', 'nt', 'n', ('n', (((0, 'x'),),))]
 """
 
+PAPERS = """
+>>> from oftenasked.papers import answers_again, broken, judged, paper, second_broken
+>>> lamp = ("nt", (((1, "x"), (1, "x")), ((1, "x"), (0, "y"))))
+>>> [broken(lamp, "n", 2), broken(lamp, "nt", 1), broken(lamp, "n", 1), paper(lamp, "n", 1)]
+[('n', 't', 2, 't'), ('t', 1, 't'), None, ('bears', (0, 1))]
+>>> [judged(lamp, "n", 1, ("bears", (0, 0))), judged(lamp, "n", 2, ("broken", ("n", "t", 2, "t"))), answers_again(lamp, "n", 1)]
+[False, True, True]
+>>> count = ("gs", (((0, "a"), (1, "o")), ((1, "b"), (1, "o"))))
+>>> [answers_again(count, "g", 1), answers_again(count, "g", 2), second_broken(count, "g", 2)]
+[True, False, ('g', 's', 2)]
+"""
+
+ORDERS = """
+>>> from oftenasked.orders import can_lead, may_swap, swaps
+>>> count = ("gs", (((0, "a"), (1, "o")), ((1, "b"), (1, "o"))))
+>>> [may_swap(count, "g", "s"), swaps(count), can_lead(count, "gs", "sg"), swaps(("ab", (((0, "x"), (0, "y")),)))]
+[False, (), False, ('ab',)]
+"""
+
+CLERKS = """
+>>> from oftenasked.clerks import clerk_breaks, clerked, does_serve, is_enough, wished
+>>> lamp = ("nt", (((1, "x"), (1, "x")), ((1, "x"), (0, "y"))))
+>>> [clerked(lamp, (3, 2), ("t", 1, "t", 2, 1)), wished(lamp, ("t", 1, "t", 2, 1)), clerked(lamp, (3, 1), ("t", "t", 2))]
+[('x', 'x', 'y', 'x', 'y'), ('x', 'x', 'y', 'x', 'y'), ('x', 'y', '')]
+>>> [is_enough((3, 2), 2), is_enough((2, 2), 2), does_serve(lamp, (2, 2), ("t", "t", 2)), clerk_breaks((3, 2), 2)]
+[True, False, True, None]
+"""
+
 
 class Examples(unittest.TestCase):
     def hold(self, name, text):
@@ -41,6 +69,15 @@ class Examples(unittest.TestCase):
 
     def test_again(self):
         self.hold("again", AGAIN)
+
+    def test_papers(self):
+        self.hold("papers", PAPERS)
+
+    def test_orders(self):
+        self.hold("orders", ORDERS)
+
+    def test_clerks(self):
+        self.hold("clerks", CLERKS)
 
     def test_readme(self):
         self.hold("README.md", README.read_text().replace("```", ""))

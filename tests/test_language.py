@@ -41,6 +41,7 @@ class Language(unittest.TestCase):
                     self.assertTrue(node.module.startswith("oftenasked."), path)
                     home = ast.parse(self.files[PACKAGE / (node.module.split(".")[1] + ".py")])
                     defined = [part.name for part in home.body if hasattr(part, "name")]
+                    defined += [part.targets[0].id for part in home.body if isinstance(part, ast.Assign)]
                     self.assertTrue(all(alias.name in defined for alias in node.names), path)
 
     def test_calls_are_of_own_functions_and_of_what_may_be_used(self):

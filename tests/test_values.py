@@ -3,13 +3,17 @@
 import copy
 import unittest
 
-from oftenasked import again, services
-from oftenasked.errors import BadHistory, BadLot, BadRow, BadService, BadWindow, NoAsk, ServiceError, Unlike
-from tests.plain import COUNT, LAMP
+from oftenasked import again, clerks, orders, papers, services
+from oftenasked.errors import (BadClerk, BadHistory, BadLot, BadRow, BadService, BadWindow, NoAsk, NotBorne, Same,
+                               ServiceError, TooMany, Unlike)
+from tests.plain import COUNT, LAMP, wheel
 
 INTERFACE = {
     services: ("is_service", "answers", "stand", "stands_come_to", "least", "are_alike", "parting"),
     again: ("is_history", "heard", "firsts", "bears", "window_of", "borne", "harmful", "greatest_part", "part"),
+    papers: ("broken", "paper", "judged", "answers_again", "second_broken"),
+    orders: ("may_swap", "swaps", "can_lead"),
+    clerks: ("clerked", "wished", "is_enough", "clerk_breaks", "does_serve"),
 }
 
 # For each function what it may be passed and the error of each parameter; None for one that takes any value.
@@ -30,7 +34,23 @@ CALLS = (
     (again.harmful, (LAMP, 1), (BadService, BadWindow)),
     (again.greatest_part, (LAMP, 1), (BadService, BadWindow)),
     (again.part, (LAMP, "n"), (BadService, BadLot)),
+    (papers.broken, (LAMP, "n", 2), (BadService, BadLot, BadWindow)),
+    (papers.paper, (LAMP, "n", 1), (BadService, BadLot, BadWindow)),
+    (papers.judged, (LAMP, "n", 1, ("bears", (0, 1))), (BadService, BadLot, BadWindow, None)),
+    (papers.answers_again, (LAMP, "n", 1), (BadService, BadLot, BadWindow)),
+    (papers.second_broken, (LAMP, "n", 1), (BadService, BadLot, BadWindow)),
+    (orders.may_swap, (LAMP, "n", "t"), (BadService, NoAsk, NoAsk)),
+    (orders.swaps, (LAMP,), (BadService,)),
+    (orders.can_lead, (LAMP, "nt", "tn"), (BadService, BadRow, BadRow)),
+    (clerks.clerked, (LAMP, (2, 1), ("n", 1)), (BadService, BadClerk, BadHistory)),
+    (clerks.wished, (LAMP, ("n", 1)), (BadService, BadHistory)),
+    (clerks.is_enough, ((2, 1), 1), (BadClerk, BadWindow)),
+    (clerks.clerk_breaks, ((2, 1), 2), (BadClerk, BadWindow)),
+    (clerks.does_serve, (LAMP, (2, 1), ("n", 1)), (BadService, BadClerk, BadHistory)),
 )
+
+# What right values may raise together; each of these errors has tests of its own.
+TOGETHER = {again.part: NoAsk, papers.second_broken: NotBorne, orders.may_swap: Same}
 
 KINDS = (None, True, False, 0, 1, 2, -1, 41, 10 ** 60, -10 ** 60, "", "n", "t", "tn", "x", "N", "\u00e9", "\n", "n" * 61,
          (), ("n",), (0, "x"), ("x", 0), [], ["n", "t"], [0, "x"], {}, {"n": 0}, {0: "x"}, {(0, "x"): (0, "x")})
@@ -53,7 +73,10 @@ def odd_values():
     for kind in KINDS:
         values += [(kind, rows), (asks, kind), (asks, (rows[0], kind)), (asks, (rows[0], ((0, "x"), kind))),
                    (asks, (rows[0], ((0, "x"), (kind, "x")))), (asks, (rows[0], ((0, "x"), (0, kind)))),
-                   (kind,), ("n", kind), ("n", 1, kind), [kind], {1: kind}, (kind, kind)]
+                   (kind,), ("n", kind), ("n", 1, kind), [kind], {1: kind}, (kind, kind), (1, kind), (kind, 1),
+                   ("bears", kind), ("bears", (kind, 1)), ("bears", (0, kind)), ("broken", kind), (kind, (0, 1)),
+                   ("broken", ("n", "t", kind, "t")), ("broken", ("n", "t", 2, kind)), ("broken", [kind])]
+    values += [("bears", (0, 1)), ["bears", (0, 1)], ("broken", ("n", "t", 2, "t")), (41, 41), (42, 41), (41, 42)]
     values += [[asks, rows], (asks, list(rows)), (asks, [list(parts) for parts in rows])]
     return values
 
@@ -86,10 +109,22 @@ def is_plain_history(value, letters):
     return True
 
 
+def is_plain_clerk(value):
+    """Whether any value is a clerk."""
+    return (type(value) is tuple and len(value) == 2 and is_small_whole(value[0], 1, 41)
+            and is_small_whole(value[1], 0, 41))
+
+
 def is_right(tell, error, value):
     """Whether a value is right for a parameter with that error."""
     if error is None:
         return True
+    if error is NoAsk:
+        return type(value) is str and value in ("n", "t")
+    if error is BadClerk:
+        return is_plain_clerk(value)
+    if error is BadWindow and tell in (clerks.is_enough, clerks.clerk_breaks):
+        return is_small_whole(value, 0, 40)
     if error is BadService:
         return is_plain_service(value)
     if error is BadRow:
@@ -134,7 +169,7 @@ class AnyValues(unittest.TestCase):
                     passed = right[:at] + (value,) + right[at + 1:]
                     told = self.call(tell, passed)
                     wrong = not is_right(tell, error, value)
-                    raised = isinstance(told, type) and told is not NoAsk
+                    raised = isinstance(told, type) and told is not TOGETHER.get(tell)
                     self.assertIs(raised, wrong, (tell.__name__, at, value))
                     if raised:
                         self.assertIs(told, error, (tell.__name__, at, value))
@@ -162,8 +197,19 @@ class AnyValues(unittest.TestCase):
             self.assertIs(services.is_service(value), is_plain_service(value))
             wished = is_plain_history(value, ("n", "t"))
             self.assertIs(again.is_history(LAMP, "nt", None, value), wished)
+            # Any two unlike numbers tell the lamp's stands apart.
+            right = [repr(("bears", (one, other))) for one in range(3) for other in range(3) if one != other]
+            right += [repr(("bears", (0, 41))), repr(("bears", (0, 10 ** 60))), repr(("bears", (41, 1))),
+                      repr(("bears", (10 ** 60, 1)))]
+            self.assertIs(papers.judged(LAMP, "n", 1, value), repr(value) in right, value)
+            self.assertIs(papers.judged(LAMP, "n", 2, value), repr(value) == "('broken', ('n', 't', 2, 't'))", value)
         for tell, passed in ((services.are_alike, (LAMP, LAMP)), (services.are_alike, (LAMP, ("nt", LAMP[1][::-1]))),
-                             (again.bears, (LAMP, "n", 1)), (again.bears, (LAMP, "n", None))):
+                             (again.bears, (LAMP, "n", 1)), (again.bears, (LAMP, "n", None)),
+                             (papers.answers_again, (COUNT, "g", 1)), (papers.answers_again, (COUNT, "g", 2)),
+                             (papers.answers_again, (LAMP, "n", 2)), (orders.may_swap, (LAMP, "n", "t")),
+                             (orders.can_lead, (LAMP, "n", "n")), (orders.can_lead, (LAMP, "nt", "tn")),
+                             (clerks.is_enough, ((2, 1), 1)), (clerks.is_enough, ((2, 1), 2)),
+                             (clerks.does_serve, (LAMP, (1, 0), ("n",))), (clerks.does_serve, (LAMP, (1, 0), ("t", 1)))):
             self.assertIs(type(tell(*passed)), bool)
 
     def test_what_two_parameters_tell_together_comes_last(self):
@@ -172,6 +218,13 @@ class AnyValues(unittest.TestCase):
         self.assertIs(self.call(services.parting, (COUNT, None)), BadService)
         self.assertIs(self.call(again.part, (LAMP, "")), NoAsk)
         self.assertIs(self.call(again.part, (None, "")), BadService)
+        self.assertIs(self.call(papers.second_broken, (LAMP, "n", 2)), NotBorne)
+        self.assertIs(self.call(papers.second_broken, (LAMP, "n", 41)), BadWindow)
+        self.assertIs(self.call(papers.broken, (wheel(31), "b", 2)), TooMany)
+        self.assertIs(self.call(papers.broken, (wheel(31), "b", 41)), BadWindow)
+        self.assertIs(self.call(orders.may_swap, (LAMP, "n", "n")), Same)
+        self.assertIs(self.call(orders.may_swap, (None, "n", "n")), BadService)
+        self.assertIs(self.call(orders.may_swap, (LAMP, "x", "x")), NoAsk)
 
 
 if __name__ == "__main__":
