@@ -55,6 +55,33 @@ CLERKS = """
 [True, False, True, None]
 """
 
+LOTS = """
+>>> from oftenasked.lots import are_alike_again, beside, can_answer, renamed, row_again
+>>> lamp = ("nt", (((1, "x"), (1, "x")), ((1, "x"), (0, "y"))))
+>>> [can_answer(lamp, "t", None, "tnt"), can_answer(lamp, "t", 0, "tt"), renamed(lamp, "ba") == ("ab", (((1, "x"), (1, "x")), ((0, "y"), (1, "x"))))]
+[('x', 'x', 'xy'), ('x', 'y'), True]
+>>> dull = ("nt", (((0, "x"), (0, "x")),))
+>>> [row_again(lamp, dull, ""), are_alike_again(lamp, lamp, "nt"), len(beside(lamp, ("a", (((0, "z"),),)))[1])]
+['nt', True, 2]
+"""
+
+READING = r"""
+>>> from oftenasked.reading import printed, run
+>>> text = "asks nt;stand OFF=t>ON x,n>ON x;stand ON=n>ON x,t>OFF y;"
+>>> printed(text + "ask bears n ever;ask can t 2 tt;")
+'asks nt;\nstand OFF = n > ON x, t > ON x;\nstand ON = n > ON x, t > OFF y;\nask bears n ever;\nask can t 2 tt;'
+>>> run(text + "ask answers tt; ask bears n 1; ask window n; ask again n 1; ask can t 2 tt;")
+('xy', True, 1, True, ('x', 'xy'))
+"""
+
+DESKS = r"""
+>>> from oftenasked.desks import Desk
+>>> desk = Desk(("nt", (((1, "x"), (1, "x")), ((1, "x"), (0, "y")))))
+>>> done = [desk.ask("t"), desk.again(1), desk.ask("t")]
+>>> [done, desk.history(), desk.answers(), desk.would(), desk.stand(), desk.text()]
+[['x', 'y', 'x'], ('t', 1, 't'), 'xyx', 'xy', 1, 'asks nt\nhistory t 1 t\n']
+"""
+
 
 class Examples(unittest.TestCase):
     def hold(self, name, text):
@@ -78,6 +105,15 @@ class Examples(unittest.TestCase):
 
     def test_clerks(self):
         self.hold("clerks", CLERKS)
+
+    def test_lots(self):
+        self.hold("lots", LOTS)
+
+    def test_reading(self):
+        self.hold("reading", READING)
+
+    def test_desks(self):
+        self.hold("desks", DESKS)
 
     def test_readme(self):
         self.hold("README.md", README.read_text().replace("```", ""))

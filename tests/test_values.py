@@ -3,10 +3,12 @@
 import copy
 import unittest
 
-from oftenasked import again, clerks, orders, papers, services
-from oftenasked.errors import (BadClerk, BadHistory, BadLot, BadRow, BadService, BadWindow, NoAsk, NotBorne, Same,
-                               ServiceError, TooMany, Unlike)
-from tests.plain import COUNT, LAMP, wheel
+from oftenasked import again, clerks, lots, orders, papers, reading, services
+from oftenasked.errors import (BadClerk, BadHistory, BadLetters, BadLot, BadRow, BadService, BadWindow, InvalidText,
+                               NoAsk, NotBorne, NotText, Same, ServiceError, Shared, TooMany, Unlike)
+from tests.plain import COUNT, LAMP, ring, wheel
+
+PROGRAM = "asks nt;stand A=n>A x,t>A y;ask window nt;"
 
 INTERFACE = {
     services: ("is_service", "answers", "stand", "stands_come_to", "least", "are_alike", "parting"),
@@ -14,6 +16,8 @@ INTERFACE = {
     papers: ("broken", "paper", "judged", "answers_again", "second_broken"),
     orders: ("may_swap", "swaps", "can_lead"),
     clerks: ("clerked", "wished", "is_enough", "clerk_breaks", "does_serve"),
+    lots: ("beside", "renamed", "can_answer", "are_alike_again", "row_again"),
+    reading: ("check", "printed", "run"),
 }
 
 # For each function what it may be passed and the error of each parameter; None for one that takes any value.
@@ -47,10 +51,19 @@ CALLS = (
     (clerks.is_enough, ((2, 1), 1), (BadClerk, BadWindow)),
     (clerks.clerk_breaks, ((2, 1), 2), (BadClerk, BadWindow)),
     (clerks.does_serve, (LAMP, (2, 1), ("n", 1)), (BadService, BadClerk, BadHistory)),
+    (lots.beside, (LAMP, COUNT), (BadService, BadService)),
+    (lots.renamed, (LAMP, "tn"), (BadService, BadLetters)),
+    (lots.can_answer, (LAMP, "n", 1, "tn"), (BadService, BadLot, BadWindow, BadRow)),
+    (lots.are_alike_again, (LAMP, LAMP, "n"), (BadService, BadService, BadLot)),
+    (lots.row_again, (LAMP, LAMP, "n"), (BadService, BadService, BadLot)),
+    (reading.check, (PROGRAM,), (NotText,)),
+    (reading.printed, (PROGRAM,), (NotText,)),
+    (reading.run, (PROGRAM,), (NotText,)),
 )
 
 # What right values may raise together; each of these errors has tests of its own.
-TOGETHER = {again.part: NoAsk, papers.second_broken: NotBorne, orders.may_swap: Same}
+TOGETHER = {again.part: NoAsk, papers.second_broken: NotBorne, orders.may_swap: Same, lots.beside: Shared,
+            reading.check: InvalidText, reading.printed: InvalidText, reading.run: InvalidText}
 
 KINDS = (None, True, False, 0, 1, 2, -1, 41, 10 ** 60, -10 ** 60, "", "n", "t", "tn", "x", "N", "\u00e9", "\n", "n" * 61,
          (), ("n",), (0, "x"), ("x", 0), [], ["n", "t"], [0, "x"], {}, {"n": 0}, {0: "x"}, {(0, "x"): (0, "x")})
@@ -119,6 +132,10 @@ def is_right(tell, error, value):
     """Whether a value is right for a parameter with that error."""
     if error is None:
         return True
+    if error is NotText:
+        return type(value) is str
+    if error is BadLetters:
+        return type(value) is str and value == "tn"
     if error is NoAsk:
         return type(value) is str and value in ("n", "t")
     if error is BadClerk:
@@ -190,7 +207,8 @@ class AnyValues(unittest.TestCase):
         for tell, right, errors in CALLS:
             for value in (False, 10 ** 30, "X", ["n"], {"n": 1}):
                 told = self.call(tell, (value,) * len(right))
-                self.assertIs(told, errors[0] or False)
+                first = TOGETHER[tell] if errors[0] is NotText and isinstance(value, str) else errors[0]
+                self.assertIs(told, first or False)
 
     def test_functions_that_are_asked_whether_tell_true_or_false(self):
         for value in odd_values():
@@ -209,7 +227,9 @@ class AnyValues(unittest.TestCase):
                              (papers.answers_again, (LAMP, "n", 2)), (orders.may_swap, (LAMP, "n", "t")),
                              (orders.can_lead, (LAMP, "n", "n")), (orders.can_lead, (LAMP, "nt", "tn")),
                              (clerks.is_enough, ((2, 1), 1)), (clerks.is_enough, ((2, 1), 2)),
-                             (clerks.does_serve, (LAMP, (1, 0), ("n",))), (clerks.does_serve, (LAMP, (1, 0), ("t", 1)))):
+                             (clerks.does_serve, (LAMP, (1, 0), ("n",))), (clerks.does_serve, (LAMP, (1, 0), ("t", 1))),
+                             (lots.are_alike_again, (LAMP, LAMP, "n")),
+                             (lots.are_alike_again, (LAMP, ("nt", LAMP[1][::-1]), "n"))):
             self.assertIs(type(tell(*passed)), bool)
 
     def test_what_two_parameters_tell_together_comes_last(self):
@@ -225,6 +245,14 @@ class AnyValues(unittest.TestCase):
         self.assertIs(self.call(orders.may_swap, (LAMP, "n", "n")), Same)
         self.assertIs(self.call(orders.may_swap, (None, "n", "n")), BadService)
         self.assertIs(self.call(orders.may_swap, (LAMP, "x", "x")), NoAsk)
+        self.assertIs(self.call(lots.beside, (LAMP, ring(2))), Shared)
+        self.assertIs(self.call(lots.beside, (ring(2), ("ab", LAMP[1]))), TooMany)
+        self.assertIs(self.call(lots.beside, (LAMP, None)), BadService)
+        # What two parameters tell together is told ahead of the next one.
+        for tell in (lots.are_alike_again, lots.row_again):
+            self.assertIs(self.call(tell, (LAMP, COUNT, "x")), Unlike)
+            self.assertIs(self.call(tell, (LAMP, None, "x")), BadService)
+            self.assertIs(self.call(tell, (LAMP, LAMP, "x")), BadLot)
 
 
 if __name__ == "__main__":
